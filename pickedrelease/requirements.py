@@ -64,16 +64,24 @@ def need_requirement(thing):
     return thing
 
 
+def is_naming(clauses):
+    """Whether a REQUIREMENT of any number of CLAUSEs NAMES."""
+    return any([sign != "!=" and not is_starred(text) and is_forerunner(text) for sign, text in clauses])
+
+
+def pinned_places(clauses):
+    """The places that any number of CLAUSEs PIN."""
+    return [need_place(text) for sign, text in clauses if sign == "==" and not is_starred(text)]
+
+
 def names(requirement):
     """Whether a REQUIREMENT NAMES."""
-    clauses = need_requirement(requirement)
-    return any([sign != "!=" and not is_starred(text) and is_forerunner(text) for sign, text in clauses])
+    return is_naming(need_requirement(requirement))
 
 
 def pins(requirement):
     """The VERSIONs that a REQUIREMENT PINS, ascending."""
-    clauses = need_requirement(requirement)
-    places = [need_place(text) for sign, text in clauses if sign == "==" and not is_starred(text)]
+    places = pinned_places(need_requirement(requirement))
     return tuple([place_text(place) for place in sorted(set(places))])
 
 

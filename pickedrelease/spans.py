@@ -10,6 +10,8 @@ VERSION only if its low is not less than its high.
 from pickedrelease.requirements import is_starred, need_requirement, text_parts
 from pickedrelease.versions import (
     BEHIND_ALL,
+    GREATEST,
+    UNMARKED,
     first_place,
     least_place,
     need_place,
@@ -17,13 +19,19 @@ from pickedrelease.versions import (
     place_behind,
     place_of,
     place_text,
+    plain_place,
 )
+
+
+def next_numbers(numbers, length):
+    """The first ones of some NUMBERs, so many, the last one of them made one more."""
+    padded = numbers + (0,) * length
+    return padded[:length - 1] + (padded[length - 1] + 1,)
 
 
 def block_ends(epoch, numbers):
     """The low and the high of the BLOCK of an EPOCH and NUMBERs, as they are written."""
-    following_numbers = numbers[:-1] + (numbers[-1] + 1,)
-    return first_place(epoch, numbers), first_place(epoch, following_numbers)
+    return first_place(epoch, numbers), first_place(epoch, next_numbers(numbers, len(numbers)))
 
 
 def clause_ends(sign, text):
@@ -71,6 +79,24 @@ def common(one, other):
     return tuple([(low, high) for low, high in pairs if high is None or low < high])
 
 
+def gaps_of(ranges):
+    """The ranges of what is in none of these ranges."""
+    gaps = []
+    at = least_place()
+    for low, high in ranges:
+        if at < low:
+            gaps.append((at, low))
+        if high is None:
+            return tuple(gaps)
+        at = high
+    return tuple(gaps + [(at, None)])
+
+
+def without(one, other):
+    """The ranges of what is in the first ranges and not in the other ones."""
+    return common(one, gaps_of(other))
+
+
 def ranges_of(clauses):
     """The ranges of what each of any number of CLAUSEs lets in."""
     ranges = ((least_place(), None),)
@@ -87,6 +113,53 @@ def need_ranges(requirement):
 def is_inside(place, ranges):
     """Whether a place is in one of these ranges."""
     return any([low <= place and (high is None or place < high) for low, high in ranges])
+
+
+def numbers_between(numbers, limit):
+    """The NUMBERs of a BASE greater than that of some NUMBERs, and less than the greater one of a limit, if any."""
+    length = 1
+    tried = next_numbers(numbers, length)
+    while (limit and tried >= limit) or tried[-1] > GREATEST:
+        # What is told is to be passed, where it can be; the deeper, the nearer it is.
+        length += 1
+        tried = next_numbers(numbers, length)
+    return tried
+
+
+def samples_between(low, high):
+    """Places of a BASE between those of a low and of a high: a FORERUNNER, a FINAL one, a FORERUNNER."""
+    epoch, numbers = low[0], low[1]
+    if high is not None and high[:2] == (epoch, numbers):
+        return []
+    limit = high[1] if high is not None and high[0] == epoch else ()
+    between = numbers_between(numbers, limit)
+    plain = plain_place(epoch, between)
+    return [first_place(epoch, between), plain, next_place(plain)]
+
+
+def next_final(place):
+    """The place of the least FINAL VERSION of the same BASE from a place on."""
+    epoch, numbers, stage, _, post, _, _ = place
+    return epoch, numbers, UNMARKED, 0, post if stage == UNMARKED else -1, 1, 0
+
+
+def samples(low, high):
+    """Some places of a range.
+
+    If the range has a FINAL VERSION, a FORERUNNER, or one of those and a
+    greater one of these, there are such ones among the places.
+    """
+    tried = []
+    if low[2] != BEHIND_ALL:
+        final = next_final(low)
+        tried = [low, next_place(low), final, next_place(final)]
+    tried = tried + samples_between(low, high)
+    return [place for place in tried if high is None or place < high]
+
+
+def samples_of(ranges):
+    """Some places of each of some ranges, as samples tells them."""
+    return [place for low, high in ranges for place in samples(low, high)]
 
 
 def told_low(low):

@@ -11,6 +11,7 @@ from pickedrelease.errors import BadVersion
 
 MOST_FIGURES = 24
 MOST_NUMBERS = 60
+GREATEST = 999999999999999999999999
 
 # The ranks within one BASE: ".dev" alone, "a", "b", "rc" (1 to 3), none of
 # these, and a last one that no VERSION has: behind all VERSIONs of the BASE.
@@ -95,6 +96,11 @@ def least_place():
     return first_place(0, ())
 
 
+def plain_place(epoch, numbers):
+    """The place of the PLAIN VERSION of a BASE."""
+    return epoch, without_zeros(numbers), UNMARKED, 0, -1, 1, 0
+
+
 def place_behind(epoch, numbers):
     """The place behind all VERSIONs of a BASE; no VERSION has it."""
     return epoch, without_zeros(numbers), BEHIND_ALL, 0, -1, 1, 0
@@ -108,12 +114,31 @@ def next_place(place):
     return epoch, numbers, stage, count, post, 0, dev + 1
 
 
+def previous_place(place):
+    """The place of the VERSION that a place FOLLOWS, or None if it FOLLOWS none."""
+    epoch, numbers, stage, count, post, done, dev = place
+    if done or (dev == 0 and post < 0):
+        return None
+    if dev == 0:
+        return epoch, numbers, stage, count, post - 1, 1, 0
+    return epoch, numbers, stage, count, post, 0, dev - 1
+
+
+def is_final(place):
+    """Whether the VERSION of a place is FINAL."""
+    return place[2] == UNMARKED and place[5] == 1
+
+
+def numbers_text(epoch, numbers):
+    """The text of an EPOCH and NUMBERs, as they are, without an EPOCH of 0."""
+    text = ".".join([str(number) for number in numbers]) if numbers else "0"
+    return f"{epoch}!{text}" if epoch else text
+
+
 def place_text(place):
     """The PLAINEST text of a place; of one behind a BASE that of the BASE."""
     epoch, numbers, stage, count, post, done, dev = place
-    text = ".".join([str(number) for number in numbers]) if numbers else "0"
-    if epoch:
-        text = f"{epoch}!{text}"
+    text = numbers_text(epoch, numbers)
     if 1 <= stage <= len(MARKS):
         text = f"{text}{MARKS[stage - 1]}{count}"
     if post >= 0:
@@ -159,5 +184,4 @@ def following(version):
 
 def is_forerunner(version):
     """Whether a VERSION is a FORERUNNER."""
-    place = need_place(version)
-    return place[2] != UNMARKED or place[5] == 0
+    return not is_final(need_place(version))

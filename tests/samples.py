@@ -1,5 +1,6 @@
-"""What several tests share: VERSIONs in their order, a reckoning by point [6], and wrong values."""
+"""What several tests share: VERSIONs in their order, a reckoning by points [6] and [7], and wrong values."""
 
+import functools
 import re
 
 BASES = ("0", "0.0.0.1", "0.0.1", "0.1", "1", "1.0.0.1", "1.0.1", "1.1", "1.1.1", "1.2", "1.10", "2", "10", "1!0",
@@ -75,6 +76,75 @@ def clause_lets_in(clause, version):
         return here >= rank(text) and in_block(version, without_last(text))
     return {">=": here >= rank(text), "<=": here <= rank(text),
             "==": here == rank(text), "!=": here != rank(text)}[sign]
+
+
+PARTS = re.compile(r"(?:(\d+)!)?(\d+(?:\.\d+)*)(?:(a|b|rc)(\d+))?(?:\.post(\d+))?(?:\.dev(\d+))?")
+LAST = float("inf")
+
+
+@functools.lru_cache(maxsize=None)
+def key(version):
+    """What any VERSION compares by, also one that is not among ASCENDING."""
+    epoch, numbers, mark, count, post, dev = PARTS.fullmatch(version).groups()
+    base = [int(number) for number in numbers.split(".")]
+    while base and base[-1] == 0:
+        base.pop()
+    stage = (mark, int(count)) if mark else ("z", 0)
+    if dev and not mark and not post:
+        stage = ("", 0)
+    return int(epoch or 0), tuple(base), stage, int(post) if post else -1, int(dev) if dev else LAST
+
+
+def is_unfinished(version):
+    """Whether a VERSION is a FORERUNNER."""
+    return any(mark in version for mark in ("a", "b", "rc", ".dev"))
+
+
+@functools.lru_cache(maxsize=None)
+def takes_in(clause, version):
+    """Whether a CLAUSE lets any VERSION in, by the words of point [6]."""
+    sign, text = clause
+    if text.endswith(".*"):
+        return in_block(version, text[:-2]) == (sign == "==")
+    here, there = key(version), key(text)
+    return {
+        ">=": here >= there,
+        "<=": here <= there,
+        "==": here == there,
+        "!=": here != there,
+        "<": here[:2] < there[:2],
+        ">": here[:2] > there[:2],
+        "~=": here >= there and "." in text and in_block(version, without_last(text)),
+    }[sign]
+
+
+def all_take_in(requirement, version):
+    """Whether a REQUIREMENT lets any VERSION in."""
+    return all(takes_in(clause, version) for clause in requirement)
+
+
+def has_name(requirement):
+    """Whether a REQUIREMENT NAMES."""
+    return any(sign != "!=" and is_unfinished(text) for sign, text in requirement)
+
+
+def has_pinned(requirement, version):
+    """Whether a REQUIREMENT PINS a VERSION."""
+    return any(sign == "==" and not text.endswith("*") and key(text) == key(version) for sign, text in requirement)
+
+
+def all_candidates(requirement, releases):
+    """The CANDIDATEs, by the words of point [7]."""
+    return [version for version, withdrawn in releases
+            if all_take_in(requirement, version) and (not withdrawn or has_pinned(requirement, version))]
+
+
+def picked(requirement, releases):
+    """The PICK, by the words of point [7]."""
+    told = all_candidates(requirement, releases)
+    if not has_name(requirement):
+        told = [version for version in told if not is_unfinished(version)] or told
+    return max(told, key=key, default=None)
 
 
 class Plain:
