@@ -1,7 +1,7 @@
 """Whether REQUIREMENTs pick the same from all LISTs, and LISTs by which they do not."""
 
 from pickedrelease.picking import need_rule, worth
-from pickedrelease.spans import samples_of, without
+from pickedrelease.spans import samples, samples_of, without
 from pickedrelease.versions import is_final, place_text
 
 
@@ -22,9 +22,10 @@ def rise(ranges):
 
 def lost(old, new):
     """A LIST of one RELEASE that the old rule picks and the new one does not, or None."""
-    places = samples_of(without(old[0], new[0]))
-    if places:
-        return list_of(places[:1])
+    ranges = without(old[0], new[0])
+    if ranges:
+        low, high = ranges[0]
+        return list_of(samples(low, high)[:1])
     if old[1] and not new[1]:
         return list_of([old[0][0][0]], True)
     return None

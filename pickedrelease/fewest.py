@@ -13,10 +13,12 @@ from itertools import combinations
 
 from pickedrelease.alike import parting, rise
 from pickedrelease.picking import rule_of
-from pickedrelease.requirements import STAR, is_naming, need_requirement
-from pickedrelease.spans import block_ends, clause_ranges
+from pickedrelease.requirements import STAR, clause_reading, is_naming, need_readings
+from pickedrelease.spans import block_ends, outer_ends
 from pickedrelease.versions import (
     BEHIND_ALL,
+    GREATEST,
+    MOST_NUMBERS,
     UNMARKED,
     first_place,
     least_place,
@@ -80,11 +82,13 @@ def offers_of(clauses, start, end, most):
     """The offers of those of some CLAUSEs that let in all from a start to an end."""
     offers = []
     for clause in clauses:
-        low, high = clause_ranges(clause)[0]
+        # What is told may have more NUMBERs than what is passed.
+        reading = clause_reading(clause, MOST_NUMBERS, GREATEST)
+        low, high = outer_ends(reading)
         if low <= start and (high is None or (end is not None and end <= high)):
             below = left_out_below(low, start, most)
             above = left_out_above(end, high, most)
-            offers.append((clause, is_naming((clause,)), below, above))
+            offers.append((clause, is_naming([reading]), below, above))
     return offers
 
 
@@ -132,14 +136,25 @@ def rest_clauses(start, block):
     return [("~=", padded_text(place, length)) for place in places if place is not None]
 
 
-def block_clauses(start, end):
-    """CLAUSEs that let in a BLOCK, or the rest of one, with all from a start to an end."""
-    if end is None:
-        return []
-    clauses = []
+def smallest_block(start, end):
+    """The NUMBERs of the smallest BLOCK with all from a start to an end, or None."""
+    found = None
     for length in range(1, max(1, len(start[1]), len(end[1])) + 1):
         block = (start[1] + (0,) * length)[:length]
-        clauses.append(("==", numbers_text(start[0], block) + STAR))
+        if block_ends(start[0], block)[1] < end:
+            return found
+        found = block
+    return found
+
+
+def block_clauses(start, end):
+    """CLAUSEs that let in a BLOCK, or the rest of one, with all from a start to an end, if an end is wanted."""
+    # A greater BLOCK begins no nearer to the start, and ends behind the end.
+    block = None if end is None else smallest_block(start, end)
+    if block is None:
+        return []
+    clauses = [("==", numbers_text(start[0], block) + STAR)]
+    if block_ends(start[0], block)[1] == end:
         clauses += rest_clauses(start, block)
     return clauses
 
@@ -185,19 +200,20 @@ def inner_clauses(ranges, most):
 
 def fewest(requirement):
     """A FEWEST form of a REQUIREMENT."""
-    clauses = need_requirement(requirement)
-    ranges, pinned, naming = rule_of(clauses)
+    readings = need_readings(requirement)
+    ranges, pinned, naming = rule_of(readings)
     if ranges == ():
         return (NOTHING,)
     if pinned:
         return (("==", place_text(ranges[0][0])),)
     wanted = None if rise(ranges) is None else naming
-    return tuple(outer_form(ranges, wanted, len(clauses)) + inner_clauses(ranges, len(clauses)))
+    most = len(readings)
+    return tuple(outer_form(ranges, wanted, most) + inner_clauses(ranges, most))
 
 
 def needless(requirement):
     """The numbers of the NEEDLESS CLAUSEs of a REQUIREMENT."""
-    clauses = need_requirement(requirement)
-    rule = rule_of(clauses)
-    rest_rules = [rule_of(clauses[:at] + clauses[at + 1:]) for at in range(len(clauses))]
+    readings = need_readings(requirement)
+    rule = rule_of(readings)
+    rest_rules = [rule_of(readings[:at] + readings[at + 1:]) for at in range(len(readings))]
     return tuple([at for at, rest_rule in enumerate(rest_rules) if parting(rule, rest_rule) is None])

@@ -1,7 +1,7 @@
 """Whether a PICK stays, whatever is released later."""
 
 from pickedrelease.picking import best_place, need_entries, need_rule, worth
-from pickedrelease.spans import common, gaps_of, samples_of
+from pickedrelease.spans import common, gaps_of, samples
 from pickedrelease.versions import is_version, next_place, place_text
 
 
@@ -16,27 +16,32 @@ def above_all(entries):
     return ((listed[-1][1], None),) if listed else gaps_of(())
 
 
-def better_places(entries, rule, free):
-    """Places in free ranges that are picked, if they are put into a LIST.
+def breaker_among(entries, rule, free):
+    """A VERSION in free ranges that is picked, if it is put into a LIST, or None.
 
-    There are some if any is: the LIST has none of what is free, so the PICK
-    is not amid a range, and a range has places of all kinds that it can have.
+    The LIST has none of what is free, so its PICK is not amid a range; and a
+    range has samples of all kinds of VERSIONs that it has. What is told can be
+    passed, where some of them can.
     """
     best = best_place(entries, rule)
-    places = samples_of(common(rule[0], free))
-    return [place for place in places if best is None or worth(place, rule[2]) > worth(best, rule[2])]
-
-
-def told_breaker(places):
-    """The BREAKER that is told of some: where possible one that can be passed."""
-    texts = [place_text(place) for place in places]
-    told = [text for text in texts if is_version(text)] + texts
-    return told[0] if told else None
+    least = None if best is None else worth(best, rule[2])
+    told = None
+    for low, high in reversed(common(rule[0], free)):
+        if least is not None and least[0] and low < best:
+            # What is ahead of such a PICK is worth less.
+            return told
+        for place in samples(low, high):
+            if least is None or worth(place, rule[2]) > least:
+                text = place_text(place)
+                if is_version(text):
+                    return text
+                told = text
+    return told
 
 
 def breaker_in(entries, rule):
     """A BREAKER of a rule and the entries of a LIST, or None."""
-    return told_breaker(better_places(entries, rule, gaps_of(listed_ranges(entries))))
+    return breaker_among(entries, rule, gaps_of(listed_ranges(entries)))
 
 
 def lasts(requirement, releases):
@@ -59,4 +64,4 @@ def breaker_upwards(requirement, releases):
     """A BREAKER of the PICK from a LIST that is greater than all of this, or None."""
     rule = need_rule(requirement)
     entries = need_entries(releases)
-    return told_breaker(better_places(entries, rule, above_all(entries)))
+    return breaker_among(entries, rule, above_all(entries))

@@ -7,7 +7,7 @@ The package reckons with a LIST as its entries, pairs (place, withdrawn).
 """
 
 from pickedrelease.errors import BadReleases, BadText
-from pickedrelease.requirements import is_naming, need_requirement, pinned_places
+from pickedrelease.requirements import is_naming, need_readings, pinned_places
 from pickedrelease.spans import is_inside, ranges_of
 from pickedrelease.versions import is_final, place_of, read_version
 
@@ -15,15 +15,15 @@ MOST_RELEASES = 40
 WITHDRAWN_SIGN = "-"
 
 
-def rule_of(clauses):
+def rule_of(readings):
     """The rule of a REQUIREMENT of any number of CLAUSEs."""
-    ranges = ranges_of(clauses)
-    return ranges, ranges != () and pinned_places(clauses) != [], is_naming(clauses)
+    ranges = ranges_of(readings)
+    return ranges, ranges != () and pinned_places(readings) != [], is_naming(readings)
 
 
 def need_rule(requirement):
     """The rule of a thing, if it is a REQUIREMENT."""
-    return rule_of(need_requirement(requirement))
+    return rule_of(need_readings(requirement))
 
 
 def read_release(thing):

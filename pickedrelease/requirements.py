@@ -1,7 +1,11 @@
-"""CLAUSEs and REQUIREMENTs: what they are, what they name and pin, their texts."""
+"""CLAUSEs and REQUIREMENTs: what they are, what they name and pin, their texts.
+
+The package reckons with a CLAUSE as its reading, a tuple (sign, starred, parts):
+its SIGN, whether its TEXT has a star, and the parts of its VERSION.
+"""
 
 from pickedrelease.errors import BadRequirement, BadText
-from pickedrelease.versions import UNMARKED, is_forerunner, need_place, place_text, read_version
+from pickedrelease.versions import UNMARKED, place_of, place_text, read_version
 
 MOST_CLAUSES = 12
 SIGNS = ("==", "!=", "<=", ">=", "<", ">", "~=")
@@ -11,77 +15,69 @@ MOST_CLAUSE_NUMBERS = 8
 GREATEST_NUMBER = 1000000000
 
 
-def is_starred(text):
-    """Whether the TEXT of a CLAUSE stands for a BLOCK."""
-    return text.endswith(STAR)
-
-
-def text_parts(text):
-    """The parts of the VERSION in the TEXT of a CLAUSE, or None if there is none."""
-    return read_version(text.removesuffix(STAR))
-
-
-def is_plain(parts):
-    """Whether parts are those of a PLAIN VERSION."""
-    return parts[2:] == (UNMARKED, 0, -1, -1)
-
-
-def is_within_limits(parts):
-    """Whether parts are within the limits of the VERSIONs in CLAUSEs."""
-    epoch, numbers, _, count, post, dev = parts
-    return len(numbers) <= MOST_CLAUSE_NUMBERS and max(epoch, count, post, dev, *numbers) <= GREATEST_NUMBER
-
-
-def takes(sign, text):
-    """Whether a SIGN takes a TEXT."""
-    parts = text_parts(text)
-    if parts is None or not is_within_limits(parts):
-        return False
-    if is_starred(text):
-        return sign in ("==", "!=") and is_plain(parts)
-    if sign in ("<", ">"):
-        return is_plain(parts)
+def takes(sign, starred, parts):
+    """Whether a SIGN takes a VERSION with these parts, with or without a star."""
+    if starred or sign == "<" or sign == ">":
+        is_plain = parts[2] == UNMARKED and parts[4] < 0 and parts[5] < 0
+        return is_plain and (not starred or sign == "==" or sign == "!=")
     return sign != "~=" or len(parts[1]) >= 2
+
+
+def clause_reading(thing, most_numbers=MOST_CLAUSE_NUMBERS, greatest=GREATEST_NUMBER):
+    """The reading of a CLAUSE within limits, those of what is passed, or None if a thing is none."""
+    if not isinstance(thing, tuple) or len(thing) != 2:
+        return None
+    sign, text = thing
+    if not isinstance(sign, str) or not isinstance(text, str) or sign not in SIGNS:
+        return None
+    starred = text.endswith(STAR)
+    parts = read_version(text.removesuffix(STAR) if starred else text, most_numbers, greatest)
+    return (sign, starred, parts) if parts is not None and takes(sign, starred, parts) else None
 
 
 def is_clause(thing):
     """Whether a thing is a CLAUSE that can be passed."""
-    if not isinstance(thing, tuple) or len(thing) != 2:
-        return False
-    sign, text = thing
-    if not isinstance(sign, str) or not isinstance(text, str):
-        return False
-    return sign in SIGNS and takes(sign, text)
+    return clause_reading(thing) is not None
+
+
+def need_readings(thing):
+    """The readings of the CLAUSEs of a thing, if it is a REQUIREMENT."""
+    if not isinstance(thing, tuple) or len(thing) > MOST_CLAUSES:
+        raise BadRequirement(())
+    readings = []
+    for at, item in enumerate(thing):
+        reading = clause_reading(item)
+        if reading is None:
+            raise BadRequirement((at,))
+        readings.append(reading)
+    return readings
 
 
 def need_requirement(thing):
     """The thing itself, if it is a REQUIREMENT."""
-    if not isinstance(thing, tuple) or len(thing) > MOST_CLAUSES:
-        raise BadRequirement(())
-    for at, item in enumerate(thing):
-        if not is_clause(item):
-            raise BadRequirement((at,))
+    need_readings(thing)
     return thing
 
 
-def is_naming(clauses):
+def is_naming(readings):
     """Whether a REQUIREMENT of any number of CLAUSEs NAMES."""
-    return any([sign != "!=" and not is_starred(text) and is_forerunner(text) for sign, text in clauses])
+    # A starred VERSION is a PLAIN one, so no FORERUNNER.
+    return any([sign != "!=" and (parts[2] != UNMARKED or parts[5] >= 0) for sign, _, parts in readings])
 
 
-def pinned_places(clauses):
+def pinned_places(readings):
     """The places that any number of CLAUSEs PIN."""
-    return [need_place(text) for sign, text in clauses if sign == "==" and not is_starred(text)]
+    return [place_of(parts) for sign, starred, parts in readings if sign == "==" and not starred]
 
 
 def names(requirement):
     """Whether a REQUIREMENT NAMES."""
-    return is_naming(need_requirement(requirement))
+    return is_naming(need_readings(requirement))
 
 
 def pins(requirement):
     """The VERSIONs that a REQUIREMENT PINS, ascending."""
-    places = pinned_places(need_requirement(requirement))
+    places = pinned_places(need_readings(requirement))
     return tuple([place_text(place) for place in sorted(set(places))])
 
 
@@ -90,7 +86,7 @@ def requirement_text(requirement):
     return ",".join([sign + text for sign, text in need_requirement(requirement)])
 
 
-def read_clause(text):
+def clause_of(text):
     """The CLAUSE of a text, or None if it is no such text."""
     for sign in SIGNS:
         if text.startswith(sign):
@@ -106,7 +102,7 @@ def read_requirement(text):
         raise BadText(())
     if text == "":
         return ()
-    clauses = [read_clause(part) for part in text.split(",")]
+    clauses = [clause_of(part) for part in text.split(",")]
     if None in clauses:
         raise BadText((clauses.index(None),))
     return need_requirement(tuple(clauses))

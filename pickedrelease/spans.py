@@ -7,7 +7,7 @@ one of those that come nearer and nearer to a BASE), so a range is without a
 VERSION only if its low is not less than its high.
 """
 
-from pickedrelease.requirements import is_starred, need_requirement, text_parts
+from pickedrelease.requirements import need_readings
 from pickedrelease.versions import (
     BEHIND_ALL,
     GREATEST,
@@ -34,16 +34,16 @@ def block_ends(epoch, numbers):
     return first_place(epoch, numbers), first_place(epoch, next_numbers(numbers, len(numbers)))
 
 
-def clause_ends(sign, text):
+def clause_ends(reading):
     """The low and the high of what the TEXT of a CLAUSE stands for under its SIGN.
 
     This is a BLOCK, all VERSIONs of a BASE, the rest of a BLOCK, or one VERSION.
     """
-    parts = text_parts(text)
+    sign, starred, parts = reading
     epoch, numbers = parts[0], parts[1]
-    if is_starred(text):
+    if starred:
         return block_ends(epoch, numbers)
-    if sign in ("<", ">"):
+    if sign == "<" or sign == ">":
         return first_place(epoch, numbers), place_behind(epoch, numbers)
     place = place_of(parts)
     if sign == "~=":
@@ -51,32 +51,47 @@ def clause_ends(sign, text):
     return place, next_place(place)
 
 
-def clause_ranges(clause):
-    """The ranges of a CLAUSE."""
-    sign, text = clause
-    low, high = clause_ends(sign, text)
-    least = least_place()
-    by_sign = {
-        "==": ((low, high),),
-        "~=": ((low, high),),
-        "!=": ((least, low), (high, None)),
-        "<": ((least, low),),
-        "<=": ((least, high),),
-        ">": ((high, None),),
-        ">=": ((low, None),),
-    }
-    return by_sign[sign]
+def outer_ends(reading):
+    """The low and the high of what a CLAUSE with another SIGN than "!=" lets in."""
+    sign = reading[0]
+    low, high = clause_ends(reading)
+    if sign == "==" or sign == "~=":
+        return low, high
+    if sign == "<" or sign == "<=":
+        return least_place(), low if sign == "<" else high
+    return high if sign == ">" else low, None
+
+
+def is_let_in(place, reading):
+    """Whether a CLAUSE lets in the VERSION of a place."""
+    if reading[0] == "!=":
+        low, high = clause_ends(reading)
+        return place < low or high <= place
+    low, high = outer_ends(reading)
+    return low <= place and (high is None or place < high)
 
 
 def lesser_high(one, other):
     """The lesser of two highs."""
-    return min([high for high in (one, other) if high is not None], default=None)
+    if one is None:
+        return other
+    return one if other is None or one < other else other
 
 
 def common(one, other):
     """The ranges of what is in both of two tuples of ranges."""
-    pairs = [(max(low, start), lesser_high(high, end)) for low, high in one for start, end in other]
-    return tuple([(low, high) for low, high in pairs if high is None or low < high])
+    ranges = []
+    here = there = 0
+    while here < len(one) and there < len(other):
+        low = max(one[here][0], other[there][0])
+        high = lesser_high(one[here][1], other[there][1])
+        if high is None or low < high:
+            ranges.append((low, high))
+        if high == one[here][1]:
+            here += 1
+        else:
+            there += 1
+    return tuple(ranges)
 
 
 def gaps_of(ranges):
@@ -97,22 +112,46 @@ def without(one, other):
     return common(one, gaps_of(other))
 
 
-def ranges_of(clauses):
+def without_cuts(start, end, cuts):
+    """The ranges of what is from a start on and below an end, but between none of some lows and their highs."""
+    ranges = []
+    for low, high in sorted(cuts):
+        if end is not None and end <= low:
+            break
+        if start < low:
+            ranges.append((start, low))
+        start = max(start, high)
+    if end is None or start < end:
+        ranges.append((start, end))
+    return tuple(ranges)
+
+
+def ranges_of(readings):
     """The ranges of what each of any number of CLAUSEs lets in."""
-    ranges = ((least_place(), None),)
-    for clause in clauses:
-        ranges = common(ranges, clause_ranges(clause))
-    return ranges
+    start = least_place()
+    end = None
+    cuts = []
+    for reading in readings:
+        if reading[0] == "!=":
+            cuts.append(clause_ends(reading))
+        else:
+            low, high = outer_ends(reading)
+            start = max(start, low)
+            end = lesser_high(end, high)
+    return without_cuts(start, end, cuts)
 
 
 def need_ranges(requirement):
     """The ranges of a thing, if it is a REQUIREMENT."""
-    return ranges_of(need_requirement(requirement))
+    return ranges_of(need_readings(requirement))
 
 
 def is_inside(place, ranges):
     """Whether a place is in one of these ranges."""
-    return any([low <= place and (high is None or place < high) for low, high in ranges])
+    for low, high in ranges:
+        if high is None or place < high:
+            return low <= place
+    return False
 
 
 def numbers_between(numbers, limit):
@@ -179,8 +218,13 @@ def spans(requirement):
 
 def lets_in(requirement, version):
     """Whether a REQUIREMENT lets a VERSION in."""
-    ranges = need_ranges(requirement)
-    return is_inside(need_place(version), ranges)
+    readings = need_readings(requirement)
+    place = need_place(version)
+    # All CLAUSEs are looked at ahead of the VERSION, but what they stand for only until one leaves it out.
+    for reading in readings:
+        if not is_let_in(place, reading):
+            return False
+    return True
 
 
 def same_set(one, other):

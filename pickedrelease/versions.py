@@ -13,6 +13,9 @@ MOST_FIGURES = 24
 MOST_NUMBERS = 60
 GREATEST = 999999999999999999999999
 
+# So long are as many NUMBERs as a VERSION can have, with "." between.
+MOST_CHARACTERS = 1499
+
 # The ranks within one BASE: ".dev" alone, "a", "b", "rc" (1 to 3), none of
 # these, and a last one that no VERSION has: behind all VERSIONs of the BASE.
 DEV_ALONE = 0
@@ -21,50 +24,71 @@ UNMARKED = 4
 BEHIND_ALL = 5
 
 
-def is_number(text):
-    """Whether a text is a NUMBER."""
-    if not 1 <= len(text) <= MOST_FIGURES or not text.isascii() or not text.isdigit():
-        return False
-    return text == "0" or not text.startswith("0")
+def read_number(text):
+    """The integer of a NUMBER, or None if a text is none."""
+    if len(text) > MOST_FIGURES or not text.isascii() or not text.isdigit() or (text[0] == "0" and text != "0"):
+        return None
+    return int(text)
+
+
+def read_numbers(text):
+    """The integers of NUMBERs with "." between, or None if a text has another form.
+
+    They may be too many, or too great.
+    """
+    if len(text) > MOST_CHARACTERS or not text.isascii():
+        return None
+    numbers = text.split(".")
+    values = tuple([int(number) for number in numbers if number.isdigit()])
+    if len(values) < len(numbers):
+        return None
+    if (text[0] == "0" or ".0" in text) and [number for number in numbers if number[0] == "0" and number != "0"]:
+        return None
+    return values
 
 
 def split_off(text, mark):
-    """What stands ahead of a mark, and what stands behind it, None without the mark."""
+    """What stands ahead of a mark, and the integer behind it: -1 without the mark, None if it is no NUMBER."""
     head, found, tail = text.partition(mark)
-    return (head, tail) if found else (head, None)
+    return head, read_number(tail) if found else -1
 
 
 def split_stage(text):
-    """What stands ahead of "a", "b" or "rc", the rank of this, and what stands behind it."""
+    """What stands ahead of "a", "b" or "rc", the rank of this, and the integer behind it, None if it is no NUMBER."""
     for rank, mark in enumerate(MARKS, start=1):
-        head, tail = split_off(text, mark)
-        if tail is not None:
-            return head, rank, tail
-    return text, UNMARKED, None
+        if mark in text:
+            head, count = split_off(text, mark)
+            return head, rank, count
+    return text, UNMARKED, 0
 
 
-def value_or(text, missing):
-    """The integer of a NUMBER, or what stands for a missing one."""
-    return missing if text is None else int(text)
-
-
-def read_version(text):
-    """The parts (epoch, numbers, stage, count, post, dev) of a VERSION, or None if the text is none.
-
-    The numbers are all that are written, as BLOCKs go by them; a missing post or dev is -1.
-    """
+def read_marked(text, most_numbers, greatest):
+    """As read_version, of a text that is more than NUMBERs."""
     head, dev = split_off(text, ".dev")
     head, post = split_off(head, ".post")
     head, stage, count = split_stage(head)
-    epoch, sign, tail = head.rpartition("!")
-    if not sign:
-        epoch = "0"
-    numbers = tail.split(".")
-    behind = [part for part in (count, post, dev) if part is not None]
-    if len(numbers) > MOST_NUMBERS or not all([is_number(part) for part in [epoch] + numbers + behind]):
+    before, sign, behind = head.rpartition("!")
+    epoch = read_number(before) if sign else 0
+    numbers = read_numbers(behind)
+    if numbers is None or None in (epoch, count, post, dev):
         return None
-    values = tuple([int(number) for number in numbers])
-    return int(epoch), values, stage, value_or(count, 0), value_or(post, -1), value_or(dev, -1)
+    if len(numbers) > most_numbers or max(epoch, count, post, dev, *numbers) > greatest:
+        return None
+    return epoch, numbers, stage, count, post, dev
+
+
+def read_version(text, most_numbers=MOST_NUMBERS, greatest=GREATEST):
+    """The parts (epoch, numbers, stage, count, post, dev) of a VERSION, or None if the text is none.
+
+    The numbers are all that are written, as BLOCKs go by them; a missing post
+    or dev is -1. A VERSION with more NUMBERs or greater numbers counts as none.
+    """
+    numbers = read_numbers(text)
+    if numbers is None:
+        return read_marked(text, most_numbers, greatest)
+    if len(numbers) > most_numbers or max(numbers) > greatest:
+        return None
+    return 0, numbers, UNMARKED, 0, -1, -1
 
 
 def without_zeros(numbers):
@@ -78,7 +102,7 @@ def without_zeros(numbers):
 def place_of(parts):
     """The place of a VERSION by its parts."""
     epoch, numbers, stage, count, post, dev = parts
-    base = without_zeros(numbers)
+    base = numbers if numbers[-1] else without_zeros(numbers)
     if dev < 0:
         return epoch, base, stage, count, post, 1, 0
     if stage == UNMARKED and post < 0:
@@ -131,7 +155,7 @@ def is_final(place):
 
 def numbers_text(epoch, numbers):
     """The text of an EPOCH and NUMBERs, as they are, without an EPOCH of 0."""
-    text = ".".join([str(number) for number in numbers]) if numbers else "0"
+    text = ".".join(map(str, numbers)) if numbers else "0"
     return f"{epoch}!{text}" if epoch else text
 
 
@@ -160,7 +184,10 @@ def need_version(thing):
 
 def need_place(thing):
     """The place of a thing, if it is a VERSION."""
-    return place_of(read_version(need_version(thing)))
+    parts = read_version(thing) if isinstance(thing, str) else None
+    if parts is None:
+        raise BadVersion("no version")
+    return place_of(parts)
 
 
 def order(one, other):

@@ -87,7 +87,6 @@ class ByHand(unittest.TestCase):
         for requirement, releases, told in (
                 ("==1.0", "", "1"), ("==1.0rc1", "2 -1", "1rc1"), ("<=0.dev2", "0.dev0 0.dev1", "0.dev2"),
                 ("<=0.dev2", "-0.dev0 -0.dev2", "0.dev1"), ("<=0.dev0", "", "0.dev0"), (">=1!1.0,<=1!1", "1", "1!1"),
-                ("<=1.post0,>=1,!=1.post0", "-1.post0 1.post0.dev0", "1"),
                 ("<=1.0.dev1,>=1.dev0", "1.dev0 3", "1.dev1")):
             self.assertEqual(breaker(read_requirement(requirement), read_releases(releases)), told)
 
