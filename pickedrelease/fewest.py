@@ -50,13 +50,14 @@ def left_out(low, high, gap, most):
     """The CLAUSEs with "!=", few as can be, that leave out what is from low on and below high, of a gap around this.
 
     They leave out nothing outside of the gap. None if it takes more than most.
+    The low is the place of a VERSION.
     """
     clauses = []
     at = low
     while at < high:
-        block = block_around(at, gap)
-        if len(clauses) == most or (block is None and at[2] == BEHIND_ALL):
+        if len(clauses) == most:
             return None
+        block = block_around(at, gap)
         if block is None:
             clauses.append(("!=", place_text(at)))
             at = next_place(at)

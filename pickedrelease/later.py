@@ -19,9 +19,9 @@ def above_all(entries):
 def breaker_among(entries, rule, free):
     """A VERSION in free ranges that is picked, if it is put into a LIST, or None.
 
-    The LIST has none of what is free, so its PICK is not amid a range; and a
-    range has samples of all kinds of VERSIONs that it has. What is told can be
-    passed, where some of them can.
+    The LIST has none of what is free, so its PICK is not amid a range; and the
+    samples of a range are of all kinds that it has. One that can be passed is
+    told ahead of others.
     """
     best = best_place(entries, rule)
     least = None if best is None else worth(best, rule[2])
