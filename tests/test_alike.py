@@ -188,7 +188,8 @@ RISE = (
     (">=1.post0.dev1,<=1.post0", True), ("<=0.post0", False), ("<=0.post0,!=0", True),
     ("<=0.post0,!=0.post0.dev0", False),
     ("!=1rc1", False), ("==1rc1", True), (">=1rc1,<=1rc1", True), ("<=0.dev5", True), ("<=2,!=1.*,!=0.*", True),
-    ("<=2.post0.dev0,!=1.*,!=0.*", True), ("<=2.post0,!=1.*,!=0.*", False),
+    (">2,<1!1", False), (">2,<=1!0.1rc1,>=0.dev0", True), (">=9,<1!0.5", False), ("<=2.post0.dev0,!=1.*,!=0.*", True),
+    ("<=2.post0,!=1.*,!=0.*", False),
 )
 
 

@@ -85,6 +85,14 @@ class Reading(unittest.TestCase):
                 self.assertIs(is_version(samples.long_version(61, last) + end), False)
                 refuses(self, need_version, "1!" + samples.long_version(61, last) + end)
 
+    def test_the_longest_version(self):
+        longest = f"{NINES}!" + ".".join([NINES] * 60) + f"rc{NINES}.post{NINES}.dev{NINES}"
+        for text in (longest, ".".join([NINES] * 60)):
+            self.assertIs(is_version(text), True)
+            self.assertEqual(plainest(text), text)
+            self.assertEqual(order(text, text), 0)
+            self.assertIs(is_version(text + "9"), False)
+
     def test_each_reading_refuses_what_is_no_version(self):
         for call in (plainest, following, is_forerunner):
             for text in samples.BAD_VERSIONS:
