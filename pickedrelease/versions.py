@@ -26,7 +26,7 @@ BEHIND_ALL = 5
 
 def read_number(text):
     """The integer of a NUMBER, or None if a text is none."""
-    if len(text) > MOST_FIGURES or not text.isascii() or not text.isdigit() or (text[0] == "0" and text != "0"):
+    if not text.isdigit() or not text.isascii() or len(text) > MOST_FIGURES or (text[0] == "0" and text != "0"):
         return None
     return int(text)
 
@@ -39,6 +39,9 @@ def read_numbers(text):
     if len(text) > MOST_CHARACTERS or not text.isascii():
         return None
     numbers = text.split(".")
+    if not numbers[-1].isdigit():
+        # Most texts with more than NUMBERs end here.
+        return None
     values = tuple([int(number) for number in numbers if number.isdigit()])
     if len(values) < len(numbers):
         return None
