@@ -83,14 +83,18 @@ def candidates(requirement, releases):
     return tuple([release[0] for release, entry in zip(releases, entries) if is_candidate(entry, rule)])
 
 
-def pick(requirement, releases):
-    """The PICK of a REQUIREMENT from a LIST, or None."""
-    rule = need_rule(requirement)
+def pick_by(rule, releases):
+    """The PICK of a rule from a LIST, or None."""
     entries = need_entries(releases)
     best = best_place(entries, rule)
     if best is None:
         return None
     return releases[[place for place, _ in entries].index(best)][0]
+
+
+def pick(requirement, releases):
+    """The PICK of a REQUIREMENT from a LIST, or None."""
+    return pick_by(need_rule(requirement), releases)
 
 
 def release_text(release):

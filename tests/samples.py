@@ -147,6 +147,14 @@ def picked(requirement, releases):
     return max(told, key=key, default=None)
 
 
+def clauses_of(plain, ends):
+    """All CLAUSEs with some PLAIN VERSIONs, and with some ends behind them."""
+    told = [(sign, text) for text in plain for sign in ("<", ">")]
+    told += [(sign, text + ".*") for text in plain for sign in ("==", "!=")]
+    told += [(sign, text + end) for text in plain for end in ends for sign in (">=", "<=", "==", "!=")]
+    return told + [("~=", text + end) for text in plain for end in ends if "." in text]
+
+
 class Plain:
     """An object of no kind that is wanted."""
 

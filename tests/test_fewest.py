@@ -48,14 +48,6 @@ class Universe:
         return inside, pinning, felt and samples.has_name(clauses)
 
 
-def clauses_of(plain, ends):
-    """All CLAUSEs with some PLAIN VERSIONs, and with some ends behind them."""
-    told = [(sign, text) for text in plain for sign in ("<", ">")]
-    told += [(sign, text + ".*") for text in plain for sign in ("==", "!=")]
-    told += [(sign, text + end) for text in plain for end in ends for sign in (">=", "<=", "==", "!=")]
-    return told + [("~=", text + end) for text in plain for end in ends if "." in text]
-
-
 # PLAIN VERSIONs and ends of the CLAUSEs of a search, and the BASEs at and about their bounds.
 SEARCHES = (
     (("0", "1", "1.0", "1.1"), ("", ".dev0", "a0", ".post0"),
@@ -135,7 +127,7 @@ class Reckoned(unittest.TestCase):
     def test_against_a_search_of_two_clauses(self):
         for plain, ends, bases in SEARCHES:
             universe = Universe(bases)
-            found = self.search(universe, clauses_of(plain, ends), 2)
+            found = self.search(universe, samples.clauses_of(plain, ends), 2)
             for thing in found.values():
                 told = fewest(thing)
                 self.assertLessEqual(len(told), len(thing), (thing, told))
@@ -144,7 +136,7 @@ class Reckoned(unittest.TestCase):
     def test_requirements_that_pick_alike_have_as_few(self):
         for plain, ends, bases in SEARCHES:
             universe = Universe(bases)
-            clauses = clauses_of(plain, ends)
+            clauses = samples.clauses_of(plain, ends)
             found = self.search(universe, clauses, 2)
             chance = random.Random(13)
             for _ in range(300):
@@ -158,7 +150,7 @@ class Reckoned(unittest.TestCase):
     def test_needless_against_the_words_of_the_point(self):
         for plain, ends, bases in SEARCHES:
             universe = Universe(bases)
-            clauses = clauses_of(plain, ends)
+            clauses = samples.clauses_of(plain, ends)
             chance = random.Random(14)
             for _ in range(400):
                 thing = tuple(chance.choices(clauses, k=chance.randrange(6)))
