@@ -155,6 +155,43 @@ def clauses_of(plain, ends):
     return told + [("~=", text + end) for text in plain for end in ends if "." in text]
 
 
+UNIVERSE_ENDS = (".dev0", ".dev1", ".dev2", "a0.dev0", "a0.dev1", "a0", "a0.post0.dev0", "a0.post0", "a0.post1",
+                 "a1.dev0", "a1", "rc0", "rc1", "", ".post0.dev0", ".post0.dev1", ".post0.dev2", ".post0",
+                 ".post1.dev0", ".post1", ".post2")
+
+
+class Universe:
+    """VERSIONs, and what REQUIREMENTs do with them, by the words of points [6] and [9]."""
+
+    def __init__(self, bases, more=()):
+        versions = [base + end for base in bases for end in UNIVERSE_ENDS] + list(more)
+        self.versions = sorted({key(version): version for version in versions}.values(), key=key)
+        self.masks = {}
+        self.finals = self.mask_of(lambda version: not is_unfinished(version))
+        self.all = (1 << len(self.versions)) - 1
+
+    def mask_of(self, is_in):
+        return sum(1 << at for at, version in enumerate(self.versions) if is_in(version))
+
+    def mask(self, clause):
+        """The VERSIONs that a CLAUSE lets in, as bits."""
+        if clause not in self.masks:
+            self.masks[clause] = self.mask_of(lambda version: takes_in(clause, version))
+        return self.masks[clause]
+
+    def picks(self, clauses):
+        """What REQUIREMENTs that PICK ALIKE have in common: VERSIONs, whether a pin counts, whether NAMES does."""
+        inside = self.all
+        for clause in clauses:
+            inside &= self.mask(clause)
+        if not inside:
+            return 0, False, False
+        pinning = any(sign == "==" and not text.endswith("*") for sign, text in clauses)
+        finals, others = inside & self.finals, inside & ~self.finals
+        felt = bool(finals) and (finals & -finals) < others
+        return inside, pinning, felt and has_name(clauses)
+
+
 class Plain:
     """An object of no kind that is wanted."""
 

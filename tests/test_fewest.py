@@ -12,41 +12,6 @@ from pickedrelease.fewest import fewest, needless
 from pickedrelease.requirements import MOST_CLAUSES, SIGNS, is_clause, read_requirement
 
 GREAT = 1000000000
-ENDS = (".dev0", ".dev1", ".dev2", "a0.dev0", "a0.dev1", "a0", "a0.post0.dev0", "a0.post0", "a0.post1", "a1.dev0", "a1",
-        "rc0", "rc1", "", ".post0.dev0", ".post0.dev1", ".post0.dev2", ".post0", ".post1.dev0", ".post1", ".post2")
-
-
-class Universe:
-    """VERSIONs, and what REQUIREMENTs do with them, by the words of points [6] and [9]."""
-
-    def __init__(self, bases, more=()):
-        versions = [base + end for base in bases for end in ENDS] + list(more)
-        self.versions = sorted({samples.key(version): version for version in versions}.values(), key=samples.key)
-        self.masks = {}
-        self.finals = self.mask_of(lambda version: not samples.is_unfinished(version))
-        self.all = (1 << len(self.versions)) - 1
-
-    def mask_of(self, is_in):
-        return sum(1 << at for at, version in enumerate(self.versions) if is_in(version))
-
-    def mask(self, clause):
-        """The VERSIONs that a CLAUSE lets in, as bits."""
-        if clause not in self.masks:
-            self.masks[clause] = self.mask_of(lambda version: samples.takes_in(clause, version))
-        return self.masks[clause]
-
-    def picks(self, clauses):
-        """What REQUIREMENTs that PICK ALIKE have in common: VERSIONs, whether a pin counts, whether NAMES does."""
-        inside = self.all
-        for clause in clauses:
-            inside &= self.mask(clause)
-        if not inside:
-            return 0, False, False
-        pinning = any(sign == "==" and not text.endswith("*") for sign, text in clauses)
-        finals, others = inside & self.finals, inside & ~self.finals
-        felt = bool(finals) and (finals & -finals) < others
-        return inside, pinning, felt and samples.has_name(clauses)
-
 
 # PLAIN VERSIONs and ends of the CLAUSEs of a search, and the BASEs at and about their bounds.
 SEARCHES = (
@@ -126,7 +91,7 @@ class Reckoned(unittest.TestCase):
 
     def test_against_a_search_of_two_clauses(self):
         for plain, ends, bases in SEARCHES:
-            universe = Universe(bases)
+            universe = samples.Universe(bases)
             found = self.search(universe, samples.clauses_of(plain, ends), 2)
             for thing in found.values():
                 told = fewest(thing)
@@ -135,7 +100,7 @@ class Reckoned(unittest.TestCase):
 
     def test_requirements_that_pick_alike_have_as_few(self):
         for plain, ends, bases in SEARCHES:
-            universe = Universe(bases)
+            universe = samples.Universe(bases)
             clauses = samples.clauses_of(plain, ends)
             found = self.search(universe, clauses, 2)
             chance = random.Random(13)
@@ -149,7 +114,7 @@ class Reckoned(unittest.TestCase):
 
     def test_needless_against_the_words_of_the_point(self):
         for plain, ends, bases in SEARCHES:
-            universe = Universe(bases)
+            universe = samples.Universe(bases)
             clauses = samples.clauses_of(plain, ends)
             chance = random.Random(14)
             for _ in range(400):
@@ -212,7 +177,7 @@ class Great(unittest.TestCase):
         told = fewest(thing)
         self.assertLess(time.process_time() - begun, 2)
         self.assertEqual(len(told), count, told)
-        Reckoned.check_told(self, Universe(bases, more), thing, told)
+        Reckoned.check_told(self, samples.Universe(bases, more), thing, told)
 
     def test_twelve_blocks_of_eight_numbers(self):
         head = f"{GREAT}!" + ".".join([str(GREAT)] * 7)
