@@ -39,6 +39,25 @@ def rule_together(row):
     return rule_of([reading for readings in row for reading in readings])
 
 
+class Trial:
+    """What a Project is when a with statement begins, put back when this ends."""
+
+    def __init__(self, project):
+        self.project = project
+
+    def __enter__(self):
+        self.listed = self.project.listed
+        self.wanted = self.project.wanted
+        # Deeds and undoing change the list that the Project has.
+        self.past = list(self.project.past)
+        return self.project
+
+    def __exit__(self, kind, value, trace):
+        self.project.listed = self.listed
+        self.project.wanted = self.wanted
+        self.project.past = self.past
+
+
 class Project:
     """A LIST, listed; wants by their names, wanted; and what these two were ahead of each deed, past."""
 
@@ -145,28 +164,6 @@ class Project:
     def trial(self):
         """An object for one with statement, behind which all is as it was ahead of it."""
         return Trial(self)
-
-
-class Trial:
-    """What a Project was when a with statement began."""
-
-    def __init__(self, project):
-        self.project = project
-        self.listed = project.listed
-        self.wanted = project.wanted
-        self.past = project.past
-
-    def __enter__(self):
-        self.listed = self.project.listed
-        self.wanted = self.project.wanted
-        # Deeds and undoing change the list that the Project has.
-        self.past = list(self.project.past)
-        return self.project
-
-    def __exit__(self, kind, value, trace):
-        self.project.listed = self.listed
-        self.project.wanted = self.wanted
-        self.project.past = self.past
 
 
 def under(manager, deed):

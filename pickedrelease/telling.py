@@ -64,6 +64,7 @@ def outers_of(goods, bads):
         low, high = block_ends(least[0], block)
         length = len(block) + 1
         start = nearest_start(least, length, bads)
+        # This lets in no less than the next one, but is plainer where it is enough.
         outers.append((("==", numbers_text(least[0], block) + STAR), low, high))
         outers.append((("~=", padded_text(start, length)), start, high))
     return outers

@@ -29,10 +29,10 @@ TALKS = (
      ("barred 0!2.0", "a"), ("barred 0", "c"), ("want d <0", "done"), ("forget a", "done"), ("core", "d"),
      ("barred 3", "d"), ("forget d", "done"), ("core", "open"), ("barred 3", "none"), ("barred 2.0.0rc1", "c")),
     (("want a ==1", "done"), ("lasts", "no, 1"), ("release 1.0", "done"), ("lasts", "yes"),
-     ("want a >=1.0,<=1", "done"), ("lasts", "yes"), ("want b <0", "done"), ("lasts", "yes"),
-     ("undo", "done"), ("withdraw 1", "done"), ("lasts", "yes"), ("want a <=0.dev1", "done"), ("release 0.dev0", "done"), ("lasts", "no, 0.dev1"),
-     ("withdraw 0.dev0", "done"), ("lasts", "no, 0.dev1"), ("release 0.0.dev1", "done"), ("lasts", "yes"),
-     ("pick", "0.0.dev1"), ("list", "-1.0 -0.dev0 0.0.dev1")),
+     ("want a >=1.0,<=1", "done"), ("lasts", "yes"), ("want b <0", "done"), ("lasts", "yes"), ("undo", "done"),
+     ("withdraw 1", "done"), ("lasts", "yes"), ("want a <=0.dev1", "done"), ("release 0.dev0", "done"),
+     ("lasts", "no, 0.dev1"), ("withdraw 0.dev0", "done"), ("lasts", "no, 0.dev1"), ("release 0.0.dev1", "done"),
+     ("lasts", "yes"), ("pick", "0.0.dev1"), ("list", "-1.0 -0.dev0 0.0.dev1")),
 )
 
 # Lines that are none, whatever is at the desk.
